@@ -1,0 +1,1 @@
+"""Floorfits: floors of tiles that fit by their neighbours."""
