@@ -2,7 +2,7 @@
 
 from floorfits.errors import NoFill
 from floorfits.floors import EAST, NORTH, SOUTH, WEST
-from floorfits.floors import has_number, is_right, is_tuple_of, is_whole
+from floorfits.floors import has_number, in_rows, is_like, is_right, is_whole
 from floorfits.floors import laid_places, number_at, places_of, size_of
 
 
@@ -13,25 +13,35 @@ def suits(wanted, colour):
 # A fill is laid step by step, row by row. What is laid so far bears on what
 # follows only by its seam: the colour wanted at the west of the next place,
 # then those wanted at the north of it and of the places behind it, a row's
-# worth; None where any will do. Ways to go on are counted once for a seam,
-# however many beginnings lead to it.
+# worth, then the one wanted at the east of the row's last place, where floors
+# are joined round; None where any will do. Ways to go on are counted once for
+# a seam, however many beginnings lead to it.
 class Ways:
-    def __init__(self, tiles, floor):
+    def __init__(self, tiles, floor, is_round=False):
         self.tiles = tiles
         self.ground = [number_at(floor, place) for place in places_of(floor)]
-        self.columns = size_of(floor)[1]
+        self.size = size_of(floor)
+        self.is_round = is_round
         self.known = {}
 
     def first_seam(self):
-        return (None,) * (self.columns + 1)
+        return (None,) * (self.size[1] + 2)
+
+    def ends_row(self, step):
+        return (step + 1) % self.size[1] == 0
+
+    def colour_round(self, step, seam, tile):
+        # In a row of one place a tile meets itself, so the first one is asked ahead of the seam.
+        return tile[WEST] if step % self.size[1] == 0 else seam[-1]
 
     def seam_behind(self, step, seam, tile):
         # Colours that no later tile meets are left out, so that more seams are alike.
-        ends_row = (step + 1) % self.columns == 0
-        in_last_row = step + self.columns >= len(self.ground)
-        east = None if ends_row else tile[EAST]
+        is_last = self.ends_row(step)
+        in_last_row = step + self.size[1] >= len(self.ground)
+        east = None if is_last else tile[EAST]
         south = None if in_last_row else tile[SOUTH]
-        return (east,) + seam[2:] + (south,)
+        around = self.colour_round(step, seam, tile) if self.is_round and not is_last else None
+        return (east,) + seam[2:-1] + (south, around)
 
     def numbers_for(self, step):
         laid = self.ground[step]
@@ -39,11 +49,21 @@ class Ways:
             return list(range(len(self.tiles)))
         return [laid] if has_number(self.tiles, laid) else []
 
+    def fits_round(self, step, seam, tile):
+        if not self.is_round or not self.ends_row(step):
+            return True
+        return tile[EAST] == self.colour_round(step, seam, tile)
+
+    def fits(self, step, seam, tile):
+        if not suits(seam[0], tile[WEST]) or not suits(seam[1], tile[NORTH]):
+            return False
+        return self.fits_round(step, seam, tile)
+
     def choices(self, step, seam):
         found = []
         for number in self.numbers_for(step):
             tile = self.tiles[number]
-            if suits(seam[0], tile[WEST]) and suits(seam[1], tile[NORTH]):
+            if self.fits(step, seam, tile):
                 found.append((number, self.seam_behind(step, seam, tile)))
         return found
 
@@ -72,6 +92,11 @@ class Ways:
                 left -= many
         return numbers
 
+    def whole_by(self, number):
+        if not 0 <= number < self.count_all():
+            raise NoFill("the floor has no fill with this number")
+        return in_rows(self.numbers_by(number), self.size)
+
     def count_ahead(self, numbers):
         ahead = 0
         seam = self.first_seam()
@@ -88,16 +113,6 @@ def count_fills(tiles, floor):
     return Ways(tiles, floor).count_all()
 
 
-def is_row_like(row, thing):
-    return is_tuple_of(thing, len(row), len(row))
-
-
-def is_like(floor, thing):
-    if not is_tuple_of(thing, len(floor), len(floor)):
-        return False
-    return all([is_row_like(row, part) for row, part in zip(floor, thing)])
-
-
 def is_fill(tiles, floor, whole):
     if not is_like(floor, whole) or not is_right(tiles, whole):
         return False
@@ -105,12 +120,9 @@ def is_fill(tiles, floor, whole):
 
 
 def fill(tiles, floor, number):
-    ways = Ways(tiles, floor)
-    if not is_whole(number) or not 0 <= number < ways.count_all():
-        raise NoFill("the floor has no fill with this number")
-    size = size_of(floor)
-    numbers = ways.numbers_by(number)
-    return tuple([tuple(numbers[row * size[1]:(row + 1) * size[1]]) for row in range(size[0])])
+    if not is_whole(number):
+        raise NoFill("this is no number of a fill")
+    return Ways(tiles, floor).whole_by(number)
 
 
 def number_of(tiles, floor, whole):

@@ -75,6 +75,20 @@ def places_of(floor):
     return places
 
 
+def is_row_like(row, thing):
+    return is_tuple_of(thing, len(row), len(row))
+
+
+def is_like(floor, thing):
+    if not is_tuple_of(thing, len(floor), len(floor)):
+        return False
+    return all([is_row_like(row, other) for row, other in zip(floor, thing)])
+
+
+def in_rows(numbers, size):
+    return tuple([tuple(numbers[row * size[1]:(row + 1) * size[1]]) for row in range(size[0])])
+
+
 def number_at(floor, place):
     return floor[place[0]][place[1]]
 

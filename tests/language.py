@@ -27,6 +27,14 @@ NOWHERE = re.compile(
 NEVER_NAMED = set("register mro elements open input version_info with_traceback add_note format format_map".split())
 WALKED = {"zip", "enumerate", "reversed", "range"}
 WALKERS = set("list tuple dict sorted sum any all enumerate zip min max".split())
+CHANGES = set("append clear extend insert pop remove reverse setdefault update".split())
+KINDS = set("int str bool list tuple dict".split())
+KEYS = set("len int str abs sum min max tuple".split())
+KEYWORDS = {
+    "sorted": {"key", "reverse"}, "min": {"key", "default"}, "max": {"key", "default"}, "sum": {"start"},
+    "enumerate": {"start"}, "zip": {"strict"},
+}
+BAD_FILES = set("test tests testing site conftest sitecustomize usercustomize".split()) | set(dir(builtins))
 STATEMENTS = (
     ast.FunctionDef, ast.ClassDef, ast.Assign, ast.AugAssign, ast.If, ast.While, ast.For, ast.Return, ast.Break,
     ast.Continue, ast.Pass, ast.Raise, ast.Try, ast.Expr, ast.ImportFrom,
@@ -46,6 +54,8 @@ def text_breaches(text):
             yield "L10", line
         if NOWHERE.search(row):
             yield "L17", line
+        if re.search(r"\\[^nt\\'\"]", row.replace("\\\\", "")):
+            yield "L27", line
     if text.count("\n") > 400:
         yield "L10", 400
 
@@ -180,8 +190,58 @@ def call_breaches(node, above):
             yield "L24", node.lineno
     if word in OWN_NAMES and isinstance(node.func, ast.Name):
         for keyword in node.keywords:
-            if keyword.arg not in ("key", "reverse", "default", "start", "strict"):
+            if keyword.arg not in KEYWORDS.get(word, ()):
                 yield "L22", node.lineno
+    elif isinstance(node.func, ast.Attribute) and word in OWN_METHODS and node.keywords:
+        yield "L22", node.lineno
+
+
+def kept_breaches(node, above, classes):
+    """Python's own functions and methods, and classes, that stand as values."""
+    if isinstance(node, ast.Attribute) and isinstance(node.ctx, ast.Load) and node.attr in OWN_METHODS - VALUES_FREE:
+        if not (isinstance(above, ast.Call) and above.func is node):
+            yield "L25", node.lineno
+    if not isinstance(node, ast.Name) or not isinstance(node.ctx, ast.Load):
+        return
+    if isinstance(above, ast.Call) and (above.func is node or called(above) == "isinstance"):
+        return
+    if node.id in classes | {"ValueError", "Exception"}:
+        if not isinstance(above, (ast.ClassDef, ast.ExceptHandler)) and not is_base(node, above):
+            yield "L18", node.lineno
+    elif node.id in OWN_NAMES and node.id[0].islower():
+        as_key = isinstance(above, ast.keyword) and above.arg == "key" and node.id in KEYS
+        in_kinds = isinstance(above, ast.Tuple) and node.id in KINDS
+        if not as_key and not in_kinds:
+            yield "L22", node.lineno
+
+
+def is_base(node, above):
+    return isinstance(above, ast.Attribute) and above.attr == "__init__" and above.value is node
+
+
+def walked_names(node):
+    """The names that a loop walks, itself or through enumerate and its like."""
+    if isinstance(node, ast.Name):
+        return {node.id}
+    if called(node) in WALKED and isinstance(node.func, ast.Name):
+        return set().union(set(), *(walked_names(part) for part in node.args))
+    if called(node) in ("items", "keys", "values"):
+        return walked_names(node.func.value)
+    return set()
+
+
+def loop_breaches(node):
+    if not isinstance(node, ast.For):
+        return
+    names = walked_names(node.iter)
+    for part in ast.walk(ast.Module(node.body, [])):
+        target = None
+        if isinstance(part, ast.Subscript) and isinstance(part.ctx, ast.Store):
+            target = part.value
+        elif isinstance(part, ast.Call) and isinstance(part.func, ast.Attribute) and part.func.attr in CHANGES:
+            target = part.func.value
+        if isinstance(target, ast.Name) and target.id in names:
+            yield "L23", part.lineno
 
 
 def top_names(tree):
@@ -202,6 +262,7 @@ def top_names(tree):
 def breaches(text, package):
     tree = ast.parse(text)
     every, strict = top_names(tree)
+    classes = {node.name for node in tree.body if isinstance(node, ast.ClassDef)}
     found = list(text_breaches(text)) + list(top_breaches(tree, package))
     bound = {part.arg for part in ast.walk(tree) if isinstance(part, ast.arg)}
     bound |= {part.id for part in ast.walk(tree) if isinstance(part, ast.Name) and isinstance(part.ctx, ast.Store)}
@@ -212,6 +273,8 @@ def breaches(text, package):
             found.extend(expression_breaches(node))
             found.extend(name_breaches(node, every, bound))
             found.extend(call_breaches(node, above))
+            found.extend(kept_breaches(node, above, classes))
+            found.extend(loop_breaches(node))
             if isinstance(node, (ast.FunctionDef, ast.Lambda)):
                 found.extend(def_breaches(node, strict))
             if isinstance(node, ast.ClassDef):

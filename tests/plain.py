@@ -3,6 +3,8 @@
 from itertools import product
 from random import Random
 
+from floorfits.errors import FloorError
+
 NORTH, EAST, SOUTH, WEST = range(4)
 
 PAIR = ((0, 1, 0, 1), (1, 1, 0, 0))
@@ -12,6 +14,14 @@ LONE = ((0, 1, 2, 3),)
 FREE = ((0, 0, 0, 0), (1, 0, 0, 0), (2, 0, 0, 0), (3, 0, 0, 0), (4, 0, 0, 0))
 # All fit beside each other, and each below some of them.
 ROWS = ((0, 5, 1, 5), (1, 5, 2, 5), (2, 5, 0, 5), (0, 5, 2, 5), (1, 5, 1, 5))
+
+# Colours that go up from row to row, so that floors of four rows and more have no fill.
+STAIRS = ((0, 0, 1, 0), (1, 0, 2, 0), (2, 0, 3, 0), (0, 1, 1, 1), (1, 1, 2, 1))
+# Each fits only beside and below the other one.
+BOARD = ((0, 1, 1, 0), (1, 0, 0, 1))
+
+SMALL = ((1, 1), (1, 2), (1, 3), (1, 4), (2, 1), (3, 1), (4, 1), (2, 2))
+EIGHT = tuple((r, c) for r, c in product(range(1, 7), repeat=2) if r * c <= 8)
 
 
 def sixteen():
@@ -82,3 +92,72 @@ def plain_fills(tiles, floor):
         for whole in all_floors(tiles, len(floor), len(floor[0]))
         if keeps(floor, whole) and not plain_clashes(tiles, whole)
     ]
+
+
+def grow(tiles, floor, whole):
+    """All ways to go on with rows begun, tile by tile; quicker than trying all floors, and as plain."""
+    step = sum(len(row) for row in whole)
+    columns = len(floor[0])
+    if step == len(floor) * columns:
+        yield tuple(tuple(row) for row in whole)
+        return
+    r, c = divmod(step, columns)
+    for number in range(len(tiles)):
+        if floor[r][c] is not None and floor[r][c] != number:
+            continue
+        if c > 0 and tiles[whole[r][c - 1]][EAST] != tiles[number][WEST]:
+            continue
+        if r > 0 and tiles[whole[r - 1][c]][SOUTH] != tiles[number][NORTH]:
+            continue
+        rows = [list(row) for row in whole]
+        if c == 0:
+            rows.append([])
+        rows[r].append(number)
+        yield from grow(tiles, floor, rows)
+
+
+def grown_fills(tiles, floor):
+    return list(grow(tiles, floor, []))
+
+
+def bare(rows, columns):
+    return ((None,) * columns,) * rows
+
+
+def laid(floor):
+    return [(r, c) for r, row in enumerate(floor) for c, number in enumerate(row) if number is not None]
+
+
+def changed(floor, place, number):
+    rows = [list(row) for row in floor]
+    rows[place[0]][place[1]] = number
+    return tuple(tuple(row) for row in rows)
+
+
+def plain_cost(floor, weights, whole):
+    return sum(weights[r][c] for r, c in laid(floor) if floor[r][c] != whole[r][c])
+
+
+def plain_joined(tiles, floor):
+    return all(tiles[row[-1]][EAST] == tiles[row[0]][WEST] for row in floor)
+
+
+def some_weights(chance, rows, columns, most=3):
+    return tuple(tuple(chance.randint(0, most) for _ in range(columns)) for _ in range(rows))
+
+
+def outside(floor):
+    rows, columns = len(floor), len(floor[0])
+    return (
+        (-1, 0), (0, -1), (-1, -1), (-rows, 0), (0, -columns), (rows, 0), (0, columns),
+        (rows, columns), (rows - 1, columns), (rows, columns - 1), (rows + 9, 0), (0, columns + 9), (-9, 0), (0, -9),
+    )
+
+
+def refusal(call, *things):
+    """The very class of the refusal, or None where there is none."""
+    try:
+        call(*things)
+    except FloorError as error:
+        return type(error)
+    return None

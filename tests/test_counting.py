@@ -9,11 +9,9 @@ from floorfits.counting import count_fills, fill, is_fill, number_of
 from floorfits.errors import NoFill
 from floorfits.floors import clashes, empty, is_right, places_of, tile_at, with_tile
 from tests.plain import (
-    FREE, LONE, ROWS, all_floors, plain_fills, sixteen, some_floor, some_pairs, some_set,
+    EIGHT, FREE, LONE, ROWS, SMALL, STAIRS, all_floors, grown_fills, plain_fills, sixteen, some_floor, some_pairs,
+    some_set,
 )
-
-SMALL = ((1, 1), (1, 2), (1, 3), (1, 4), (2, 1), (3, 1), (4, 1), (2, 2))
-EIGHT = tuple((r, c) for r, c in product(range(1, 7), repeat=2) if r * c <= 8)
 
 
 class Counts(unittest.TestCase):
@@ -97,6 +95,21 @@ class Counts(unittest.TestCase):
             counts.append(self.assertCounts(tiles, floor))
         self.assertIn(0, counts)
         self.assertGreater(max(counts), 60)
+
+    def test_the_quicker_trial_of_the_tests_is_as_the_plain_one(self):
+        for tiles, floor in some_pairs(31, 80, SMALL, 0.7, colours=2):
+            self.assertEqual(grown_fills(tiles, floor), plain_fills(tiles, floor))
+
+    def test_eight_places_against_a_trial(self):
+        most = 0
+        for tiles, floor in some_pairs(32, 40, EIGHT, 0.9, colours=2):
+            fills = grown_fills(tiles, floor)
+            most = max(most, len(fills))
+            self.assertEqual(count_fills(tiles, floor), len(fills))
+            for number in range(0, len(fills), 17):
+                self.assertEqual(fill(tiles, floor, number), fills[number])
+                self.assertEqual(number_of(tiles, floor, fills[number]), number)
+        self.assertGreater(most, 100)
 
     def test_all_numbers_at_a_place_have_all_fills(self):
         for tiles, floor in some_pairs(9, 60, EIGHT, 0.8, colours=2):
@@ -240,12 +253,11 @@ class Bounds(unittest.TestCase):
             self.assertNumbered(ROWS, empty(rows, columns), each ** columns, chance)
 
     def test_no_fill_at_all(self):
-        stairs = ((0, 0, 1, 0), (1, 0, 2, 0), (2, 0, 3, 0), (0, 1, 1, 1), (1, 1, 2, 1))
-        self.assertEqual(count_fills(stairs, empty(4, 2)), 0)
-        self.assertEqual(count_fills(stairs, empty(5, 1)), 0)
-        self.assertEqual(count_fills(stairs, empty(3, 2)), 4)
+        self.assertEqual(count_fills(STAIRS, empty(4, 2)), 0)
+        self.assertEqual(count_fills(STAIRS, empty(5, 1)), 0)
+        self.assertEqual(count_fills(STAIRS, empty(3, 2)), 4)
         with self.assertRaises(NoFill):
-            fill(stairs, empty(4, 2), 0)
+            fill(STAIRS, empty(4, 2), 0)
 
     def test_some_sets_of_five(self):
         chance = Random(6)

@@ -9,7 +9,7 @@ from floorfits.floors import (
     clashes, edges_of, empty, is_floor, is_full, is_right, is_set, laid_places,
     places_of, size_of, tile_at, with_tile,
 )
-from tests.plain import LONE, PAIR, all_floors, plain_clashes, sixteen, some_pairs
+from tests.plain import LONE, PAIR, all_floors, outside, plain_clashes, sixteen, some_pairs
 
 TILE = (0, 3, 8, 1)
 SOME = ((0, 1, 2, 3), (3, 2, 1, 0), TILE)
@@ -189,14 +189,6 @@ class Places(unittest.TestCase):
             self.assertIs(is_full(floor), laid == places)
             for r, c in places:
                 self.assertEqual(tile_at(floor, (r, c)), floor[r][c])
-
-
-def outside(floor):
-    rows, columns = len(floor), len(floor[0])
-    return (
-        (-1, 0), (0, -1), (-1, -1), (-rows, 0), (0, -columns), (rows, 0), (0, columns),
-        (rows, columns), (rows - 1, columns), (rows, columns - 1), (rows + 9, 0), (0, columns + 9), (-9, 0), (0, -9),
-    )
 
 
 class Tiles(unittest.TestCase):

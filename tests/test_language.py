@@ -4,7 +4,7 @@ import re
 import unittest
 from pathlib import Path
 
-from tests.language import breaches, drawn_from, methods_and_values
+from tests.language import BAD_FILES, NOWHERE, breaches, drawn_from, methods_and_values
 
 FOLDER = Path(__file__).resolve().parent.parent / "floorfits"
 TEXTS = {path.stem: path.read_text(encoding="utf-8") for path in sorted(FOLDER.glob("*.py"))}
@@ -34,15 +34,25 @@ BROKEN = (
     ("L15", "X = 1\nX = 2\n"),
     ("L15", "def told(min):\n    return min\n"),
     ("L17", "# a type\n"),
+    ("L18", "class One:\n    pass\n\n\ndef told():\n    return [One]\n"),
     ("L19", "def told(x):\n    try:\n        x()\n    except Exception:\n        pass\n"),
     ("L20", "def told(x, y):\n    return x is y\n"),
     ("L21", "def told(x: int):\n    return x\n"),
+    ("L22", "def told(xs):\n    return sorted(xs, key=repr)\n"),
+    ("L22", "def told(xs):\n    count = len\n    return count(xs)\n"),
+    ("L22", "def told(xs):\n    return max(xs, start=1)\n"),
+    ("L22", "def told(xs):\n    return xs.split(sep=',')\n"),
     ("L23", "def told(x):\n    return range(x)\n"),
+    ("L23", "def told(xs):\n    for x in xs:\n        xs.append(x)\n"),
+    ("L23", "def told(xs):\n    for k, x in enumerate(xs):\n        xs[k] = x + 1\n"),
+    ("L23", "def told(d):\n    for k, x in d.items():\n        d.pop(k)\n"),
     ("L24", "def told(x):\n    return set(x)\n"),
     ("L25", "def told(x):\n    return x.title()\n"),
+    ("L25", "def told(xs):\n    add = xs.append\n    add(1)\n"),
     ("L26", "def told(x):\n    x.items = 1\n"),
     ("L27", "def told(x):\n    return 2 ** x\n"),
     ("L27", "X = '%'\n"),
+    ("L27", "X = '\\x41'\n"),
 )
 
 
@@ -60,6 +70,7 @@ class Language(unittest.TestCase):
         self.assertEqual(sorted(names), sorted(stem + ".py" for stem in TEXTS))
         for stem in TEXTS:
             self.assertTrue(re.fullmatch(r"__init__|[a-z][a-z0-9_]*", stem), stem)
+            self.assertFalse(stem in BAD_FILES or stem.startswith("test_") or NOWHERE.search(stem), stem)
         self.assertIn("__init__", TEXTS)
 
     def test_no_two_files_draw_from_one_another(self):

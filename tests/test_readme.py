@@ -10,17 +10,17 @@ README = Path(__file__).resolve().parent.parent / "README.md"
 
 class Readme(unittest.TestCase):
     def test_its_rows_tell_what_stands_behind_them(self):
-        block = re.search(r"```python\n(.*?)```", README.read_text(encoding="utf-8"), re.S).group(1)
+        blocks = re.findall(r"```python\n(.*?)```", README.read_text(encoding="utf-8"), re.S)
         names = {}
         shown = 0
-        for row in block.splitlines():
+        for row in "".join(blocks).splitlines():
             code, sign, wanted = row.partition("  # ")
             if sign:
                 shown += 1
                 self.assertEqual(eval(code, names), ast.literal_eval(wanted), row)
             else:
                 exec(row, names)
-        self.assertGreater(shown, 5)
+        self.assertGreater(shown, 25)
 
 
 if __name__ == "__main__":
