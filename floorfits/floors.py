@@ -1,6 +1,6 @@
 """Sets of tiles, floors of their numbers, and where neighbours clash."""
 
-from floorfits.errors import NoPlace, NoTile
+from floorfits.errors import NoPlace, NoTile, Unlike
 
 MOST_COLOUR = 8
 MOST_TILES = 16
@@ -85,6 +85,11 @@ def is_like(floor, thing):
     return all([is_row_like(row, other) for row, other in zip(floor, thing)])
 
 
+def refuse_unlike(floor, other):
+    if not is_like(floor, other):
+        raise Unlike("the sizes are unlike")
+
+
 def in_rows(numbers, size):
     return tuple([tuple(numbers[row * size[1]:(row + 1) * size[1]]) for row in range(size[0])])
 
@@ -109,20 +114,27 @@ def has_place(floor, place):
     return 0 <= place[0] < size[0] and 0 <= place[1] < size[1]
 
 
-def tile_at(floor, place):
+def refuse_outside(floor, place):
     if not has_place(floor, place):
-        raise NoPlace("the floor has no such place")
+        raise NoPlace("there is no such place")
+
+
+def tile_at(floor, place):
+    refuse_outside(floor, place)
     return number_at(floor, place)
 
 
-def with_tile(tiles, floor, place, number):
-    if not has_place(floor, place):
-        raise NoPlace("the floor has no such place")
-    if not may_lie(tiles, number):
-        raise NoTile("the set has no such number")
+def with_number(floor, place, number):
     old = floor[place[0]]
     row = old[:place[1]] + (number,) + old[place[1] + 1:]
     return floor[:place[0]] + (row,) + floor[place[0] + 1:]
+
+
+def with_tile(tiles, floor, place, number):
+    refuse_outside(floor, place)
+    if not may_lie(tiles, number):
+        raise NoTile("the set has no such number")
+    return with_number(floor, place, number)
 
 
 def edge_at(tiles, floor, place, side):

@@ -1,17 +1,12 @@
 """Floors made right by changes of the least weight."""
 
 from floorfits.counting import Ways
-from floorfits.errors import NoFill, Unlike
-from floorfits.floors import empty, in_rows, is_like, number_at, places_of, size_of
+from floorfits.errors import NoFill
+from floorfits.floors import empty, in_rows, number_at, places_of, refuse_unlike, size_of
 
 
 def cost_at(laid, weight, number):
     return 0 if laid is None or laid == number else weight
-
-
-def refuse_unlike(floor, other):
-    if not is_like(floor, other):
-        raise Unlike("the sizes are unlike")
 
 
 def cost_of(floor, weights, whole):

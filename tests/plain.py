@@ -22,6 +22,16 @@ BOARD = ((0, 1, 1, 0), (1, 0, 0, 1))
 
 SMALL = ((1, 1), (1, 2), (1, 3), (1, 4), (2, 1), (3, 1), (4, 1), (2, 2))
 EIGHT = tuple((r, c) for r, c in product(range(1, 7), repeat=2) if r * c <= 8)
+SIXTEEN = tuple((r, c) for r, c in product(range(1, 7), repeat=2) if r * c <= 16)
+EVERY = tuple(product(range(1, 7), repeat=2))
+
+# Things that are no set, no tile, no floor and no row, whatever stands in them.
+ODD = (
+    None, True, False, 0, 1, -1, 10 ** 30, "", "0", "0123", "abc", (), [], [()], ((),), [[]], ([],),
+    (None,), [None], (True,), ("",), ("0123",), ((((None,),),),), [[[[[0]]]]], (((((0, 1, 2, 3),),),),),
+    ((((), [], None, True),),), ([[(["a"],)]],), [((0, 1, 2, 3),)], ("0", 1, None, False),
+    ((0, 1, 2, 3), None), ((0, 1, 2, 3), "abcd"), (((0, 0, 0, 0),) * 4,), ({},), {},
+)
 
 
 def sixteen():
@@ -126,6 +136,10 @@ def bare(rows, columns):
 
 def laid(floor):
     return [(r, c) for r, row in enumerate(floor) for c, number in enumerate(row) if number is not None]
+
+
+def spoilt(whole, index, thing):
+    return whole[:index] + (thing,) + whole[index + 1:]
 
 
 def changed(floor, place, number):

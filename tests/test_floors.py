@@ -9,24 +9,12 @@ from floorfits.floors import (
     clashes, edges_of, empty, is_floor, is_full, is_right, is_set, laid_places,
     places_of, size_of, tile_at, with_tile,
 )
-from tests.plain import LONE, PAIR, all_floors, outside, plain_clashes, sixteen, some_pairs
+from tests.plain import LONE, ODD, PAIR, all_floors, outside, plain_clashes, sixteen, some_pairs, spoilt
 
 TILE = (0, 3, 8, 1)
 SOME = ((0, 1, 2, 3), (3, 2, 1, 0), TILE)
 FLOOR = ((0, None, 2), (None, 1, 1))
 SIZES = ((1, 1), (1, 4), (4, 1), (2, 2), (2, 3), (3, 2), (4, 4), (6, 2), (2, 6), (3, 5))
-
-# Things that are no set, no tile, no floor and no row, whatever stands in them.
-ODD = (
-    None, True, False, 0, 1, -1, 10 ** 30, "", "0", "0123", "abc", (), [], [()], ((),), [[]], ([],),
-    (None,), [None], (True,), ("",), ("0123",), ((((None,),),),), [[[[[0]]]]], (((((0, 1, 2, 3),),),),),
-    ((((), [], None, True),),), ([[(["a"],)]],), [((0, 1, 2, 3),)], ("0", 1, None, False),
-    ((0, 1, 2, 3), None), ((0, 1, 2, 3), "abcd"), (((0, 0, 0, 0),) * 4,), ({},), {},
-)
-
-
-def spoilt(whole, index, thing):
-    return whole[:index] + (thing,) + whole[index + 1:]
 
 
 def many_tiles(many):

@@ -13,11 +13,10 @@ from floorfits.turning import (
     below, beside, mirrored_floor, mirrored_set, part, rolled, turned_floor, turned_set,
 )
 from tests.plain import (
-    EIGHT, FREE, LONE, PAIR, ROWS, STAIRS, bare, grown_fills, refusal, sixteen, some_floor, some_pairs, some_set,
-    some_weights,
+    EIGHT, FREE, LONE, PAIR, ROWS, SIXTEEN, STAIRS, bare, grown_fills, refusal, sixteen, some_floor, some_pairs,
+    some_set, some_weights,
 )
 
-SIXTEEN = tuple((r, c) for r, c in product(range(1, 7), repeat=2) if r * c <= 16)
 FLOOR = ((0, 1, 2), (3, None, 4))
 
 
