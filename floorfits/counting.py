@@ -2,8 +2,8 @@
 
 from floorfits.errors import NoFill
 from floorfits.floors import EAST, NORTH, SOUTH, WEST
-from floorfits.floors import has_number, in_rows, is_like, is_right, is_whole
-from floorfits.floors import laid_places, number_at, places_of, size_of
+from floorfits.floors import has_number, has_tiles_of, in_rows, is_like, is_right, is_whole
+from floorfits.floors import number_at, places_of, size_of
 
 
 def suits(wanted, colour):
@@ -116,7 +116,7 @@ def count_fills(tiles, floor):
 def is_fill(tiles, floor, whole):
     if not is_like(floor, whole) or not is_right(tiles, whole):
         return False
-    return all([number_at(whole, place) == number_at(floor, place) for place in laid_places(floor)])
+    return has_tiles_of(whole, floor)
 
 
 def fill(tiles, floor, number):

@@ -102,6 +102,14 @@ def laid_places(floor):
     return [place for place in places_of(floor) if number_at(floor, place) is not None]
 
 
+def numbers_on(floor):
+    return [number_at(floor, place) for place in laid_places(floor)]
+
+
+def has_tiles_of(whole, floor):
+    return all([number_at(whole, place) == number_at(floor, place) for place in laid_places(floor)])
+
+
 def is_full(floor):
     return len(laid_places(floor)) == len(places_of(floor))
 
@@ -144,26 +152,26 @@ def edge_at(tiles, floor, place, side):
     return tiles[number_at(floor, place)][side]
 
 
-def do_clash(one, other):
-    return one is not None and other is not None and one != other
-
-
-def clashes_east(tiles, floor, place):
+def colours_east(tiles, floor, place):
     beside = (place[0], place[1] + 1)
-    return do_clash(edge_at(tiles, floor, place, EAST), edge_at(tiles, floor, beside, WEST))
+    return (edge_at(tiles, floor, place, EAST), edge_at(tiles, floor, beside, WEST))
 
 
-def clashes_south(tiles, floor, place):
+def colours_south(tiles, floor, place):
     below = (place[0] + 1, place[1])
-    return do_clash(edge_at(tiles, floor, place, SOUTH), edge_at(tiles, floor, below, NORTH))
+    return (edge_at(tiles, floor, place, SOUTH), edge_at(tiles, floor, below, NORTH))
+
+
+def do_clash(colours):
+    return None not in colours and colours[0] != colours[1]
 
 
 def clashes(tiles, floor):
     found = []
     for place in places_of(floor):
-        if clashes_east(tiles, floor, place):
+        if do_clash(colours_east(tiles, floor, place)):
             found.append((place, "east"))
-        if clashes_south(tiles, floor, place):
+        if do_clash(colours_south(tiles, floor, place)):
             found.append((place, "south"))
     return found
 

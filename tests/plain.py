@@ -1,5 +1,6 @@
 """Sets for the tests, and the document's words put as plainly and slowly as can be."""
 
+import re
 from itertools import product
 from random import Random
 
@@ -32,6 +33,10 @@ ODD = (
     ((((), [], None, True),),), ([[(["a"],)]],), [((0, 1, 2, 3),)], ("0", 1, None, False),
     ((0, 1, 2, 3), None), ((0, 1, 2, 3), "abcd"), (((0, 0, 0, 0),) * 4,), ({},), {},
 )
+
+SIGNS = tuple(chr(code) for code in range(ord(" "), ord("~") + 1)) + ("\n",)
+# Signs that some readings take for blanks, line feeds, figures or letters.
+STRANGE = ("\r", "\t", "\0", "\x0b", "\x0c", "\x1c", "\x85", "\xa0", "\xb2", "\u0663", "\uff10", "\u2028", "\xe9")
 
 
 def sixteen():
@@ -175,3 +180,61 @@ def refusal(call, *things):
     except FloorError as error:
         return type(error)
     return None
+
+
+def near_texts(text, signs=SIGNS):
+    """All texts with one sign put in, taken out or exchanged, and the text itself now and then."""
+    for at in range(len(text) + 1):
+        yield text[:at] + text[at + 1:]
+        for sign in signs:
+            yield text[:at] + sign + text[at:]
+            yield text[:at] + sign + text[at + 1:]
+
+
+def lines_moved(text):
+    """All texts with one line left out, told twice, or exchanged with another one."""
+    lines = text.split("\n")
+    for at in range(len(lines)):
+        yield "\n".join(lines[:at] + lines[at + 1:])
+        yield "\n".join(lines[:at] + [lines[at]] + lines[at:])
+        for other in range(at):
+            moved = list(lines)
+            moved[at], moved[other] = lines[other], lines[at]
+            yield "\n".join(moved)
+
+
+def plain_set_text(text):
+    """The set of which a text is the writing, or None."""
+    if not re.fullmatch(r"([0-8]{4}\n){1,16}", text, re.A):
+        return None
+    tiles = tuple(tuple(int(sign) for sign in line) for line in text.split())
+    return tiles if len(set(tiles)) == len(tiles) else None
+
+
+def plain_floor_text(tiles, text):
+    """The floor of a set of which a text is the writing, or None."""
+    word = r"(-|0|[1-9][0-9]?)"
+    if not re.fullmatch(rf"{word}( {word}){{0,5}}(\n{word}( {word}){{0,5}}){{0,5}}", text, re.A):
+        return None
+    rows = tuple(
+        tuple(None if word == "-" else int(word) for word in line.split(" ")) for line in text.split("\n")
+    )
+    if len({len(row) for row in rows}) > 1:
+        return None
+    if any(number is not None and number >= len(tiles) for row in rows for number in row):
+        return None
+    return rows
+
+
+def plain_album_text(text):
+    """The set of the album of which a text is the writing, and its floors by their names; or None."""
+    chunks = [[]]
+    for line in text.split("\n")[:-1]:
+        chunks.append([]) if line == "--" else chunks[-1].append(line)
+    tiles = plain_set_text("".join(line + "\n" for line in chunks[0]))
+    if tiles is None or not text.endswith("\n") or [] in chunks:
+        return None
+    named = {chunk[0]: plain_floor_text(tiles, "\n".join(chunk[1:])) for chunk in chunks[1:]}
+    if None in named.values() or not all(re.fullmatch("[a-z]{1,6}", name) for name in named):
+        return None
+    return (tiles, named) if [chunk[0] for chunk in chunks[1:]] == sorted(named) else None
