@@ -5,8 +5,8 @@ from floorfits.floors import is_floor, is_set
 
 FIGURES = "012345678"
 BARE = "-"
-# No colour, and no number of a tile: a set or floor with it is none.
-UNREAD = -1
+# Stands for what is not the writing of a colour or number: no set has it, and no floor.
+UNREAD = "?"
 
 
 def tile_text(tile):
